@@ -339,8 +339,9 @@ func TestParseLong(t *testing.T) {
 	}
 }
 
-// P3.1: every string one byte away from a text is parsed exactly if it is a
-// text itself, and then it is the text of what was parsed.
+// P3.1: a string one byte away from a text, by any of the bytes in edits, is
+// parsed exactly if it is a text itself, and then it is the text of what was
+// parsed.
 func TestParseNearTexts(t *testing.T) {
 	check := func(s string) {
 		i, errno := Parse(s)
